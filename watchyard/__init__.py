@@ -1,0 +1,1 @@
+"""Watchyard: machines with watches, played against the weather, and paid for."""

@@ -4,7 +4,7 @@ import itertools
 import unittest
 
 from watchyard import bounds as own
-from watchyard.bounds import bound_sum, keeps, tighter
+from watchyard.bounds import bound_sum, keeps, tighter, tighter_of
 
 SIXTY = 10 ** 60 - 1
 BEYOND_SHOWING = 10 ** 6000 + 1
@@ -91,6 +91,14 @@ class Tighter(unittest.TestCase):
             keep_one = {part for part in parts if keeps(part, one)}
             keep_other = {part for part in parts if keeps(part, other)}
             self.assertIs(tighter(one, other), keep_one < keep_other, (one, other))
+
+
+class TighterOf(unittest.TestCase):
+    def test_one_of_both_than_which_neither_is_tighter(self):
+        for one, other in itertools.product(BOUNDS, repeat=2):
+            told = tighter_of(one, other)
+            self.assertIn(told, (one, other))
+            self.assertFalse(tighter(one, told) or tighter(other, told), (one, other))
 
 
 class BoundSum(unittest.TestCase):

@@ -28,6 +28,11 @@ WORDS = (
     r"\b(type|typing|typing_extensions|enum|Enum|IntEnum|StrEnum|Flag|IntFlag|Generic|Protocol|ABC|ABCMeta|namedtuple"
     r"|NamedTuple|TypedDict|TYPE_CHECKING|abstractmethod)\b|dataclass|overload|contextmanager")
 FILE_NAMES = set("test tests testing site conftest sitecustomize usercustomize typing enum".split()) | set(dir(builtins))
+# L23: walked on the spot, behind "in" or in one of these.
+WALKED = set("zip enumerate reversed range".split())
+WALKERS = set("list tuple dict sorted sum any all enumerate zip min max".split())
+# L26: what no value of an object is called.
+NO_VALUES = METHODS - set("count index find get join lower upper split strip copy".split()) | {"sort", "args", "encode"}
 NODES = (
     ast.Module, ast.FunctionDef, ast.ClassDef, ast.arguments, ast.arg, ast.ImportFrom, ast.alias, ast.Assign,
     ast.AugAssign, ast.If, ast.While, ast.For, ast.Return, ast.Break, ast.Continue, ast.Pass, ast.Raise, ast.Try,
@@ -100,9 +105,53 @@ def node_faults(node):
         yield "L2", not own or any(each.name == "*" for each in node.names)
 
 
+def name_faults(tree):
+    """L15: parameters and locals that are called like a class or an import of the file."""
+    taken = {alias.asname or alias.name for row in drawn_from(tree) for alias in row.names}
+    taken |= {each.name for each in tree.body if isinstance(each, ast.ClassDef)}
+    for node in ast.walk(tree):
+        if isinstance(node, ast.arg) and node.arg in taken:
+            yield "L15", node.lineno
+        if isinstance(node, ast.Name) and isinstance(node.ctx, ast.Store) and node.id in taken:
+            yield "L15", node.lineno
+
+
+def walk_faults(tree):
+    """L23: what is made to be walked, and is kept or handed on."""
+    walked = set()
+    for node in ast.walk(tree):
+        if isinstance(node, (ast.For, ast.comprehension)):
+            walked.add(node.iter)
+        if isinstance(node, ast.Call) and node.args:
+            if isinstance(node.func, ast.Name) and node.func.id in WALKERS:
+                walked.add(node.args[0])
+            if isinstance(node.func, ast.Name) and node.func.id == "zip":
+                walked.update(node.args)
+            if isinstance(node.func, ast.Attribute) and node.func.attr == "join":
+                walked.add(node.args[0])
+    for node in ast.walk(tree):
+        if isinstance(node, ast.Call) and node not in walked:
+            if isinstance(node.func, ast.Name) and node.func.id in WALKED:
+                yield "L23", node.lineno
+            if isinstance(node.func, ast.Attribute) and node.func.attr in ("items", "keys", "values"):
+                yield "L23", node.lineno
+
+
+def methods_of(tree):
+    """Each class's name, with the names of its methods."""
+    return {node.name: [each.name for each in node.body if isinstance(each, ast.FunctionDef)]
+            for node in tree.body if isinstance(node, ast.ClassDef)}
+
+
+def values_of(tree):
+    """The names of the values that objects are given."""
+    return {node.attr for node in ast.walk(tree) if isinstance(node, ast.Attribute) and isinstance(node.ctx, ast.Store)}
+
+
 def faults(source):
     tree = ast.parse(source)
-    found = text_faults(source)
+    found = text_faults(source) + list(name_faults(tree)) + list(walk_faults(tree))
+    found.extend(("L26", name) for name in values_of(tree) & NO_VALUES)
     docstring = tree.body[0] if ast.get_docstring(tree) is not None else None
     for each in tree.body:
         if each is not docstring and not isinstance(each, (ast.ImportFrom, ast.FunctionDef, ast.ClassDef, ast.Assign)):
@@ -112,7 +161,7 @@ def faults(source):
             found.append(("L6 or L7", getattr(node, "lineno", 0)))
         if node is not docstring:
             found.extend((rule, getattr(node, "lineno", 0)) for rule, broken in node_faults(node) if broken)
-    return sorted(set(found))
+    return sorted(set(found), key=repr)
 
 
 def defined(tree):
@@ -171,6 +220,18 @@ class Package(unittest.TestCase):
                 if isinstance(node, ast.Call) and isinstance(node.func, ast.Attribute):
                     self.assertIn(node.func.attr, METHODS | own, (name, node.lineno))
 
+    def test_no_name_is_a_method_in_one_class_and_a_value_in_another(self):
+        methods, values = set(), set()
+        for tree in self.trees.values():
+            methods |= {name for own in methods_of(tree).values() for name in own}
+            values |= values_of(tree)
+        self.assertEqual(methods & values, set())
+
+    def test_no_method_stands_twice(self):
+        for tree in self.trees.values():
+            for name, own in methods_of(tree).items():
+                self.assertEqual(sorted(own), sorted(set(own)), name)
+
 
 class Checker(unittest.TestCase):
     """What looks at the files would see a broken rule."""
@@ -193,6 +254,10 @@ class Checker(unittest.TestCase):
             "def f(x):\n    return x.format()\n": "L17", "def f(x, y):\n    return x is y\n": "L20",
             "def f(x):\n    try:\n        return int(x)\n    except Exception:\n        return 0\n": "L19",
             "def f(x: int):\n    return x\n": "L21", 'X = "%"\n': "L27", "def f(x):\n    yield x\n": "L6 or L7",
+            "from watchyard.points import mixed\n\n\ndef f(mixed):\n    return mixed\n": "L15",
+            "class C:\n    pass\n\n\ndef f(x):\n    C = x\n    return C\n": "L15",
+            "def f(xs):\n    return zip(xs, xs)\n": "L23", "def f(d):\n    x = d.items()\n    return list(x)\n": "L23",
+            "class C:\n    def __init__(self, x):\n        self.keys = x\n": "L26",
             "def f(xs):\n    return {x for x in xs}\n": "L6 or L7", "def f(x):\n    return (y := x)\n": "L6 or L7",
         }
         for source, rule in broken.items():

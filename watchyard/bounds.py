@@ -26,3 +26,9 @@ def bound_sum(one, other):
     if one is None or other is None:
         return None
     return (one[0] + other[0], one[1] or other[1])
+
+
+def tighter_of(one, other):
+    if tighter(other, one):
+        return other
+    return one

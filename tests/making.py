@@ -1,8 +1,10 @@
-"""Tables for the tests to ask about, and their answers, reckoned without the program."""
+"""Tables and nets for the tests to ask about, and their answers, reckoned without the program."""
 
 import fractions
 import itertools
 import math
+import operator
+import re
 
 SIXTY = 10 ** 60 - 1
 
@@ -105,3 +107,273 @@ def planted(chance, table, things, total):
         number = number - step
     told[things[-1]][things[0]] = (number, strict)
     return told
+
+
+# Nets. A yard is a dict that says what a net's text says:
+# watches: names; boxes: tuples (name, low, high, start); machines: dicts with name, rooms and doors.
+# A room is a dict with name, price (None for none), hurry and stays; a door one with start, goal, weather, word,
+# price, conds and deeds. Conditions and deeds are tuples (name, sign, number).
+
+ROW_WORDS = "watch box machine room door price hurry stay weather say hear when do at".split()
+COMPARED = {"<": operator.lt, "<=": operator.le, "==": operator.eq, "!=": operator.ne, ">=": operator.ge,
+            ">": operator.gt}
+WATCH_SIGNS = ["<", "<=", "==", ">=", ">"]
+BOX_SIGNS = WATCH_SIGNS + ["!="]
+PRICE = 10 ** 30
+
+
+def some_name(chance, taken=()):
+    while True:
+        length = chance.choice([1, 1, 2, 8, chance.randint(1, 8)])
+        name = chance.choice(ROW_WORDS + ["".join(chance.choices("abcxyz", k=length))] * 20)
+        if name not in taken:
+            return name
+
+
+def some_room(chance, yard, name, most):
+    stays = []
+    for unused in range(chance.choice([0, 0, 1, 2]) if yard["watches"] else 0):
+        sign = chance.choice(["<", "<="])
+        stays.append((chance.choice(yard["watches"]), sign, chance.randint(sign == "<", most)))
+    return {"name": name, "price": chance.choice([None, 0, chance.randint(1, 9), PRICE]),
+            "hurry": chance.random() < 0.15, "stays": stays}
+
+
+def some_conds(chance, yard, most):
+    told = []
+    for unused in range(chance.choice([0, 0, 1, 1, 2, 3])):
+        if yard["watches"] and chance.random() < 0.6:
+            told.append((chance.choice(yard["watches"]), chance.choice(WATCH_SIGNS), chance.randint(0, most)))
+        elif yard["boxes"]:
+            name, low, high, unused_start = chance.choice(yard["boxes"])
+            told.append((name, chance.choice(BOX_SIGNS), chance.choice([-20, 20, chance.randint(low, high)])))
+    return told
+
+
+def some_deeds(chance, yard):
+    told = []
+    for unused in range(chance.choice([0, 0, 1, 2, 3])):
+        if yard["watches"] and chance.random() < 0.6:
+            told.append((chance.choice(yard["watches"]), "=", 0))
+        elif yard["boxes"]:
+            name, low, high, unused_start = chance.choice(yard["boxes"])
+            sign = chance.choice("=+-")
+            told.append((name, sign, chance.randint(low, high) if sign == "=" else chance.choice([1, 1, 2, 20])))
+    return told
+
+
+def some_door(chance, yard, rooms, most):
+    word = None
+    if chance.random() < 0.5:
+        word = (chance.choice(["say", "hear"]), chance.choice(["go", "say", "when"]))
+    return {"start": chance.choice(rooms), "goal": chance.choice(rooms), "weather": chance.random() < 0.3, "word": word,
+            "price": chance.choice([None, 0, chance.randint(1, 9), PRICE]),
+            "conds": some_conds(chance, yard, most), "deeds": some_deeds(chance, yard)}
+
+
+def some_yard(chance, most=60, fullest=False):
+    yard = {"watches": [], "boxes": [], "machines": []}
+    taken = []
+    for unused in range(4 if fullest else chance.randint(0, 4)):
+        yard["watches"].append(some_name(chance, taken))
+        taken.append(yard["watches"][-1])
+    for unused in range(3 if fullest else chance.randint(0, 3)):
+        low, start, high = sorted(chance.choice([-20, 20, 0, chance.randint(-20, 20)]) for place in range(3))
+        yard["boxes"].append((some_name(chance, taken), low, high, start))
+        taken.append(yard["boxes"][-1][0])
+    doors = 24 if fullest else chance.randint(0, 24)
+    machines = 4 if fullest else chance.randint(1, 4)
+    for place in range(machines):
+        machine = {"name": some_name(chance, taken), "rooms": [], "doors": []}
+        taken.append(machine["name"])
+        names = []
+        for unused in range(6 if fullest else chance.randint(1, 6)):
+            names.append(some_name(chance, names))
+            machine["rooms"].append(some_room(chance, yard, names[-1], most))
+        share = doors if place == machines - 1 else chance.randint(0, doors)
+        doors = doors - share
+        machine["doors"] = [some_door(chance, yard, names, most) for unused in range(share)]
+        yard["machines"].append(machine)
+    return yard
+
+
+def list_text(threes):
+    return ", ".join(f"{name} {sign} {number}" for name, sign, number in threes)
+
+
+def room_text(room):
+    words = ["room", room["name"]]
+    words += ["price", str(room["price"])] if room["price"] is not None else []
+    words += ["hurry"] if room["hurry"] else []
+    words += ["stay", list_text(room["stays"])] if room["stays"] else []
+    return " ".join(words)
+
+
+def door_text(door):
+    words = ["door", door["start"], door["goal"]]
+    words += ["weather"] if door["weather"] else []
+    words += list(door["word"] or ())
+    words += ["price", str(door["price"])] if door["price"] is not None else []
+    words += ["when", list_text(door["conds"])] if door["conds"] else []
+    words += ["do", list_text(door["deeds"])] if door["deeds"] else []
+    return " ".join(words)
+
+
+def yard_text(yard):
+    rows = [f"watch {name}" for name in yard["watches"]]
+    rows += ["box " + " ".join(str(word) for word in box) for box in yard["boxes"]]
+    for machine in yard["machines"]:
+        rows.append(f"machine {machine['name']}")
+        rows += [room_text(room) for room in machine["rooms"]]
+        rows += [door_text(door) for door in machine["doors"]]
+    return "".join(f"{row}\n" for row in rows)
+
+
+def yard_doors(yard):
+    """Pairs of a machine's number and a door, in the text's order."""
+    return [(place, door) for place, machine in enumerate(yard["machines"]) for door in machine["doors"]]
+
+
+def yard_acts(yard):
+    doors = yard_doors(yard)
+    told = [(number,) for number, (machine, door) in enumerate(doors) if door["word"] is None]
+    for (one, (first, says)), (other, (second, hears)) in itertools.permutations(enumerate(doors), 2):
+        if says["word"] and hears["word"] and first != second:
+            if says["word"] == ("say", hears["word"][1]) and hears["word"][0] == "hear":
+                told.append((one, other))
+    return sorted(told)
+
+
+def yard_rooms(yard, state):
+    return [next(room for room in machine["rooms"] if room["name"] == name)
+            for machine, name in zip(yard["machines"], state[0])]
+
+
+def yard_start(yard):
+    return (tuple(machine["rooms"][0]["name"] for machine in yard["machines"]),
+            tuple(box[3] for box in yard["boxes"]), tuple((0, 1) for unused in yard["watches"]))
+
+
+def yard_holds(yard, conds, state):
+    shows = {name: fractions.Fraction(*time) for name, time in zip(yard["watches"], state[2])}
+    shows.update({box[0]: number for box, number in zip(yard["boxes"], state[1])})
+    return all(COMPARED[sign](shows[name], number) for name, sign, number in conds)
+
+
+def yard_stays(yard, state):
+    return all(yard_holds(yard, room["stays"], state) for room in yard_rooms(yard, state))
+
+
+def yard_waited(yard, state, wait):
+    """The state behind the wait, None where it may not be done."""
+    if wait[0] < 0 or (wait[0] > 0 and any(room["hurry"] for room in yard_rooms(yard, state))):
+        return None
+    sums = [fractions.Fraction(*time) + fractions.Fraction(*wait) for time in state[2]]
+    told = (state[0], state[1], tuple((each.numerator, each.denominator) for each in sums))
+    return told if wait[0] == 0 or yard_stays(yard, told) else None
+
+
+def yard_acted(yard, state, act):
+    """The state behind the act, None where it may not be done."""
+    rooms, boxes, watches = list(state[0]), list(state[1]), list(state[2])
+    pairs = [yard_doors(yard)[number] for number in act]
+    for machine, door in pairs:
+        if rooms[machine] != door["start"] or not yard_holds(yard, door["conds"], state):
+            return None
+    for machine, door in pairs:
+        rooms[machine] = door["goal"]
+        for name, sign, number in door["deeds"]:
+            if name in yard["watches"]:
+                watches[yard["watches"].index(name)] = (0, 1)
+                continue
+            place = [box[0] for box in yard["boxes"]].index(name)
+            boxes[place] = {"=": number, "+": boxes[place] + number, "-": boxes[place] - number}[sign]
+            if boxes[place] not in range(yard["boxes"][place][1], yard["boxes"][place][2] + 1):
+                return None
+    told = (tuple(rooms), tuple(boxes), tuple(watches))
+    return told if yard_stays(yard, told) else None
+
+
+NAME = "([a-z]{1,8})"
+NUMBER = "(0|-?[1-9][0-9]*)"
+THREE = f"{NAME} (<|<=|==|>=|>|!=|=|[+]|-) {NUMBER}"
+THREES = f"((?:{THREE}, )*{THREE})".replace("(0|", "(?:0|").replace("([a", "(?:[a").replace("(<", "(?:<")
+ROWS = {
+    "w": f"watch {NAME}", "b": f"box {NAME} {NUMBER} {NUMBER} {NUMBER}", "m": f"machine {NAME}",
+    "r": f"room {NAME}(?: price {NUMBER})?( hurry)?(?: stay {THREES})?",
+    "d": f"door {NAME} {NAME}( weather)?(?: (?:say|hear) {NAME})?(?: price {NUMBER})?(?: when {THREES})?"
+         f"(?: do {THREES})?"}
+KINDS = "w{0,4}b{0,3}(?:mr{1,6}d*){1,4}"
+
+
+def threes_in(text):
+    return re.findall(THREE, text) if text else []
+
+
+def threes_fit(text, watch_signs, box_signs, watches, boxes, kind):
+    """Whether each condition (kind: when or stay) or deed (kind: do) is one that its row may have."""
+    for name, sign, number in threes_in(text):
+        number = int(number)
+        if name in watches:
+            fits = sign in watch_signs and 0 <= number <= (0 if kind == "do" else 60)
+            fits = fits and not (kind == "stay" and sign == "<" and number == 0)
+        else:
+            low = 1 if kind == "do" and sign != "=" else -20
+            fits = name in boxes and sign in box_signs and low <= number <= 20
+        if not fits:
+            return False
+    return True
+
+
+def begins_net(rows):
+    """Whether some net's text begins with these rows, looked at by patterns."""
+    found = []
+    for row in rows:
+        kinds = [kind for kind, pattern in ROWS.items() if re.fullmatch(pattern, row)]
+        if not kinds:
+            return False
+        found.append((kinds[0], re.fullmatch(ROWS[kinds[0]], row).groups()))
+    kinds = "".join(kind for kind, groups in found)
+    # Whatever begins a net's text is ended by nothing, by a room, or by a machine with a room.
+    if not any(re.fullmatch(KINDS, kinds + more) for more in ("", "r", "mr")) or kinds.count("d") > 24:
+        return False
+    return names_fit(found) and all(row_fits(found[:place], *each) for place, each in enumerate(found))
+
+
+def names_fit(found):
+    names = [groups[0] for kind, groups in found if kind in "wbm"]
+    rooms = [[]]
+    for kind, groups in found:
+        rooms += [[]] if kind == "m" else []
+        rooms[-1] += [groups[0]] if kind == "r" else []
+        if kind == "d" and not {groups[0], groups[1]} <= set(rooms[-1]):
+            return False
+    return all(len(set(each)) == len(each) for each in [names] + rooms)
+
+
+def row_fits(ahead, kind, groups):
+    watches = [each[0] for sort, each in ahead if sort == "w"]
+    boxes = [each[0] for sort, each in ahead if sort == "b"]
+    if kind == "b":
+        low, high, start = (int(each) for each in groups[1:])
+        return -20 <= low <= start <= high <= 20
+    if kind == "r":
+        return price_fits(groups[1]) and threes_fit(groups[3], ["<", "<="], [], watches, boxes, "stay")
+    if kind == "d":
+        return (price_fits(groups[4]) and threes_fit(groups[5], WATCH_SIGNS, BOX_SIGNS, watches, boxes, "when")
+                and threes_fit(groups[6], ["="], ["=", "+", "-"], watches, boxes, "do"))
+    return True
+
+
+def price_fits(number):
+    return number is None or 0 <= int(number) <= PRICE
+
+
+def refused_row(text):
+    """The row by which the text is refused as a net's, None where it is one."""
+    rows = text.split("\n")
+    for number in range(1, len(rows)):
+        if not begins_net(rows[:number]):
+            return number
+    kinds = "".join(row[0] for row in rows[:-1])
+    return None if rows[-1] == "" and re.fullmatch(KINDS, kinds) else len(rows)

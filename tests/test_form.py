@@ -27,12 +27,16 @@ NOWHERE = set("register mro elements open input version_info with_traceback add_
 WORDS = (
     r"\b(type|typing|typing_extensions|enum|Enum|IntEnum|StrEnum|Flag|IntFlag|Generic|Protocol|ABC|ABCMeta|namedtuple"
     r"|NamedTuple|TypedDict|TYPE_CHECKING|abstractmethod)\b|dataclass|overload|contextmanager")
-FILE_NAMES = set("test tests testing site conftest sitecustomize usercustomize typing enum".split()) | set(dir(builtins))
+FILE_NAMES = set(dir(builtins)) | set(
+    "test tests testing site conftest sitecustomize usercustomize typing enum".split())
 # L23: walked on the spot, behind "in" or in one of these.
 WALKED = set("zip enumerate reversed range".split())
 WALKERS = set("list tuple dict sorted sum any all enumerate zip min max".split())
 # L26: what no value of an object is called.
 NO_VALUES = METHODS - set("count index find get join lower upper split strip copy".split()) | {"sort", "args", "encode"}
+# L22: the keywords that go with Python's own names.
+KEYWORDS = {"sorted": ("key", "reverse"), "min": ("key", "default"), "max": ("key", "default"), "sum": ("start",),
+            "enumerate": ("start",), "zip": ("strict",)}
 NODES = (
     ast.Module, ast.FunctionDef, ast.ClassDef, ast.arguments, ast.arg, ast.ImportFrom, ast.alias, ast.Assign,
     ast.AugAssign, ast.If, ast.While, ast.For, ast.Return, ast.Break, ast.Continue, ast.Pass, ast.Raise, ast.Try,
@@ -70,7 +74,7 @@ def node_faults(node):
         plain = all(isinstance(each, (ast.FunctionDef, ast.Pass)) for each in node.body)
         yield "L5", bool(node.decorator_list or node.keywords) or len(node.bases) > 1 or not plain
     if isinstance(node, ast.Assign):
-        yield "L6", len(node.targets) != 1
+        yield "L6", len(node.targets) != 1 or isinstance(node.targets[0], (ast.Tuple, ast.List))
     if isinstance(node, (ast.For, ast.While)):
         yield "L6", bool(node.orelse)
     if isinstance(node, ast.Try):
@@ -85,6 +89,10 @@ def node_faults(node):
     if isinstance(node, ast.Constant):
         yield "L7", not isinstance(node.value, (int, str, type(None)))
         yield "L27", isinstance(node.value, str) and "%" in node.value
+    if isinstance(node, ast.FormattedValue):
+        yield "L7", not isinstance(node.value, ast.Name) or node.format_spec is not None
+    if isinstance(node, ast.Call) and isinstance(node.func, ast.Name) and node.func.id in BUILT_IN:
+        yield "L22", any(each.arg not in KEYWORDS.get(node.func.id, ()) for each in node.keywords)
     if isinstance(node, ast.ListComp):
         yield "L7", len(node.generators) != 1 or len(node.generators[0].ifs) > 1
     if isinstance(node, ast.Compare) and any(isinstance(each, (ast.Is, ast.IsNot)) for each in node.ops):
@@ -137,6 +145,39 @@ def walk_faults(tree):
                 yield "L23", node.lineno
 
 
+def set_faults(tree):
+    """L24: sets that are kept or walked."""
+    free = set()
+    for node in ast.walk(tree):
+        if isinstance(node, ast.Call) and isinstance(node.func, ast.Name) and node.func.id in ("sorted", "len"):
+            if not node.keywords:
+                free.update(node.args)
+        if isinstance(node, ast.Compare):
+            free.update([node.left] + node.comparators)
+    for node in ast.walk(tree):
+        if isinstance(node, ast.BinOp) and node in free:
+            free.update([node.left, node.right])
+    for node in ast.walk(tree):
+        made = isinstance(node, ast.Call) and isinstance(node.func, ast.Name) and node.func.id in ("set", "frozenset")
+        if (made or isinstance(node, ast.Set)) and node not in free:
+            yield "L24", node.lineno
+
+
+def is_plain(node):
+    """L3: what a name at a file's top is given."""
+    if isinstance(node, (ast.List, ast.Tuple)):
+        return all(is_plain(each) for each in node.elts)
+    if isinstance(node, ast.Dict):
+        return all(is_plain(each) for each in node.keys + node.values)
+    return isinstance(node, ast.Constant)
+
+
+def is_deep(node):
+    """L15: a list or dict of a file's top that holds a list or dict."""
+    return isinstance(node, (ast.List, ast.Dict)) and any(
+        isinstance(each, (ast.List, ast.Dict)) for each in ast.walk(node) if each is not node)
+
+
 def methods_of(tree):
     """Each class's name, with the names of its methods."""
     return {node.name: [each.name for each in node.body if isinstance(each, ast.FunctionDef)]
@@ -150,12 +191,16 @@ def values_of(tree):
 
 def faults(source):
     tree = ast.parse(source)
-    found = text_faults(source) + list(name_faults(tree)) + list(walk_faults(tree))
+    found = text_faults(source) + list(name_faults(tree)) + list(walk_faults(tree)) + list(set_faults(tree))
     found.extend(("L26", name) for name in values_of(tree) & NO_VALUES)
     docstring = tree.body[0] if ast.get_docstring(tree) is not None else None
     for each in tree.body:
         if each is not docstring and not isinstance(each, (ast.ImportFrom, ast.FunctionDef, ast.ClassDef, ast.Assign)):
             found.append(("L3", each.lineno))
+        if isinstance(each, ast.Assign) and not is_plain(each.value):
+            found.append(("L3", each.lineno))
+        if isinstance(each, ast.Assign) and is_deep(each.value):
+            found.append(("L15", each.lineno))
     for node in ast.walk(tree):
         if not isinstance(node, NODES):
             found.append(("L6 or L7", getattr(node, "lineno", 0)))
@@ -238,7 +283,8 @@ class Checker(unittest.TestCase):
 
     def test_a_plain_file_has_no_fault(self):
         source = '"""Words."""\n\nfrom watchyard.errors import NoFraction\n\nLIMIT = 3\n\n\n'
-        source += 'def halved(number):\n    if number is None:\n        raise NoFraction("no")\n    return number // 2\n'
+        source += 'def halved(number):\n    if number is None:\n        raise NoFraction("no")\n'
+        source += "    return sorted(set([number // 2]))\n"
         self.assertEqual(faults(source), [])
 
     def test_broken_rules_are_seen(self):
@@ -258,6 +304,10 @@ class Checker(unittest.TestCase):
             "class C:\n    pass\n\n\ndef f(x):\n    C = x\n    return C\n": "L15",
             "def f(xs):\n    return zip(xs, xs)\n": "L23", "def f(d):\n    x = d.items()\n    return list(x)\n": "L23",
             "class C:\n    def __init__(self, x):\n        self.keys = x\n": "L26",
+            "X = 2 + 3\n": "L3", "X = [1, (2, [3])]\n": "L15", "def f(x):\n    a, b = x\n": "L6",
+            'def f(x):\n    return f"{x + 1}"\n': "L7", 'def f(x):\n    return f"{x:>3}"\n': "L7",
+            "def f(x):\n    return int(x, base=2)\n": "L22", "def f(x):\n    y = set(x)\n    return y\n": "L24",
+            "def f(x):\n    for y in {x}:\n        return y\n": "L24",
             "def f(xs):\n    return {x for x in xs}\n": "L6 or L7", "def f(x):\n    return (y := x)\n": "L6 or L7",
         }
         for source, rule in broken.items():

@@ -32,3 +32,9 @@ def stands(one, sign, other):
     if sign == ">=":
         return not less(one, other)
     return less(other, one)
+
+
+def cond_again(cond):
+    if isinstance(cond, WatchCond):
+        return WatchCond(cond.number, cond.sign, cond.against)
+    return BoxCond(cond.number, cond.sign, cond.against)

@@ -46,15 +46,28 @@ def lowest(top, bottom):
 
 
 def plus(one, other):
-    return lowest(one[0] * other[1] + other[0] * one[1], one[1] * other[1])
+    return summed(one, other[0], other[1])
 
 
 def minus(one, other):
-    return lowest(one[0] * other[1] - other[0] * one[1], one[1] * other[1])
+    return summed(one, -other[0], other[1])
+
+
+def summed(one, top, bottom):
+    # Only what both bottoms share can be left over to cancel. So the divisors
+    # are of the smaller numbers, also where the sum of a long run has grown great.
+    shared = common_divisor(one[1], bottom)
+    part = one[1] // shared
+    total = one[0] * (bottom // shared) + top * part
+    left = common_divisor(total, shared)
+    return (total // left, part * (bottom // left))
 
 
 def times(one, other):
-    return lowest(one[0] * other[0], one[1] * other[1])
+    # Each top can share something with the other one's bottom alone.
+    first = common_divisor(one[0], other[1])
+    second = common_divisor(other[0], one[1])
+    return (one[0] // first * (other[0] // second), one[1] // second * (other[1] // first))
 
 
 def less(one, other):

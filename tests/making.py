@@ -1,5 +1,6 @@
 """Tables and nets for the tests to ask about, and their answers, reckoned without the program."""
 
+import copy
 import fractions
 import itertools
 import math
@@ -377,3 +378,147 @@ def refused_row(text):
             return number
     kinds = "".join(row[0] for row in rows[:-1])
     return None if rows[-1] == "" and re.fullmatch(KINDS, kinds) else len(rows)
+
+
+def yard_of(text):
+    """The yard that a net's text tells."""
+    yard = {"watches": [], "boxes": [], "machines": []}
+    for row in text.splitlines():
+        kind = row[0]
+        groups = re.fullmatch(ROWS[kind], row).groups()
+        if kind == "w":
+            yard["watches"].append(groups[0])
+        if kind == "b":
+            yard["boxes"].append((groups[0],) + tuple(int(number) for number in groups[1:]))
+        if kind == "m":
+            yard["machines"].append({"name": groups[0], "rooms": [], "doors": []})
+        if kind == "r":
+            yard["machines"][-1]["rooms"].append({
+                "name": groups[0], "price": groups[1] and int(groups[1]), "hurry": groups[2] is not None,
+                "stays": whole_threes(groups[3])})
+        if kind == "d":
+            words = row.split(" ")[3 + (groups[2] is not None):]
+            yard["machines"][-1]["doors"].append({
+                "start": groups[0], "goal": groups[1], "weather": groups[2] is not None,
+                "word": groups[3] and (words[0], groups[3]), "price": groups[4] and int(groups[4]),
+                "conds": whole_threes(groups[5]), "deeds": whole_threes(groups[6])})
+    return yard
+
+
+def whole_threes(text):
+    return [(name, sign, int(number)) for name, sign, number in threes_in(text)]
+
+
+# Rows of acts.
+
+def loosened(yard):
+    """The yard with watches held against nothing: what rooms and boxes alone let be done in it."""
+    told = copy.deepcopy(yard)
+    for machine in told["machines"]:
+        for room in machine["rooms"]:
+            room["stays"] = []
+        for door in machine["doors"]:
+            door["conds"] = [three for three in door["conds"] if three[0] not in yard["watches"]]
+    return told
+
+
+def yard_stop(yard, acts):
+    """The number of the first act that can't be done by rooms and boxes, None where there is none."""
+    loose, state, known = loosened(yard), yard_start(yard), yard_acts(yard)
+    for number, act in enumerate(acts):
+        # A truth passes for a number where Python looks it up.
+        if not isinstance(act, tuple) or any(type(each) is not int for each in act) or act not in known:
+            return number
+        state = yard_acted(loose, state, act)
+        if state is None:
+            return number
+    return None
+
+
+def yard_asked(yard, acts):
+    """All tuples (i, j, number, strict) that are asked of the times of a row that rooms and boxes let be done."""
+    loose, state, told = loosened(yard), yard_start(yard), []
+    resets = {name: 0 for name in yard["watches"]}
+    for late, act in enumerate(acts, start=1):
+        doors = [yard_doors(yard)[number][1] for number in act]
+        told.append((late - 1, late, 0, False))
+        if any(room["hurry"] for room in yard_rooms(yard, state)):
+            told.append((late, late - 1, 0, False))
+        for each in [door["conds"] for door in doors] + [room["stays"] for room in yard_rooms(yard, state)]:
+            told.extend(bounds_asked(each, resets, late))
+        resets.update({name: late for door in doors for name, sign, number in door["deeds"] if name in resets})
+        state = yard_acted(loose, state, act)
+        for room in yard_rooms(yard, state):
+            told.extend(bounds_asked(room["stays"], resets, late))
+    return told
+
+
+def bounds_asked(threes, resets, late):
+    for name, sign, number in threes:
+        if name in resets and sign != ">" and sign != ">=":
+            yield (late, resets[name], number, sign == "<")
+        if name in resets and sign != "<" and sign != "<=":
+            yield (resets[name], late, -number, sign == ">")
+
+
+def some_row(chance, yard, length):
+    """A row of acts that rooms and boxes let be done, as far as it goes."""
+    loose, state, told = loosened(yard), yard_start(yard), []
+    while len(told) < length:
+        free = [act for act in yard_acts(yard) if yard_acted(loose, state, act) is not None]
+        if not free:
+            return told
+        told.append(chance.choice(free))
+        state = yard_acted(loose, state, told[-1])
+    return told
+
+
+# Asks. An ask is a list of lists of threes (machine, "at", room), (watch, sign, number) and (box, sign, number).
+
+def some_ask(chance, yard, most):
+    told = []
+    for unused in range(chance.choice([1, 1, 2, 3])):
+        part = some_conds(chance, yard, most)
+        for unused_either in range(chance.choice([0, 1, 1, 2]) if part else 1):
+            machine = chance.choice(yard["machines"])
+            part.append((machine["name"], "at", chance.choice(machine["rooms"])["name"]))
+        chance.shuffle(part)
+        told.append(part)
+    return told
+
+
+def ask_text(ask):
+    return "; ".join(list_text(part) for part in ask)
+
+
+def yard_meets(yard, ask, state):
+    names = dict(zip([machine["name"] for machine in yard["machines"]], state[0]))
+    return any(
+        all(names[three[0]] == three[2] for three in part if three[1] == "at")
+        and yard_holds(yard, [three for three in part if three[1] != "at"], state) for part in ask)
+
+
+def is_ask(yard, text):
+    """Whether the text is an ask of the yard's, looked at by patterns."""
+    three = f"(?:{NAME} at {NAME}|{THREE})"
+    if not re.fullmatch(f"{three}((, |; ){three})*", text):
+        return False
+    rooms = {machine["name"]: [room["name"] for room in machine["rooms"]] for machine in yard["machines"]}
+    boxes = [box[0] for box in yard["boxes"]]
+    for each in re.split(", |; ", text):
+        name, sign, last = each.split(" ")
+        if sign == "at":
+            fits = last in rooms.get(name, [])
+        else:
+            fits = threes_fit(each, WATCH_SIGNS, BOX_SIGNS, yard["watches"], boxes, "when")
+        if not fits:
+            return False
+    return True
+
+
+def yard_mosts(yard, asks):
+    threes = [three for machine in yard["machines"] for room in machine["rooms"] for three in room["stays"]]
+    threes += [three for machine, door in yard_doors(yard) for three in door["conds"]]
+    threes += [three for ask in asks for part in ask for three in part]
+    return [max([0] + [three[2] for three in threes if three[0] == name and three[1] != "at"])
+            for name in yard["watches"]]

@@ -1,5 +1,6 @@
 """States: tuples (rooms, boxes, times), and what a wait or an act makes of them."""
 
+from watchyard.conds import BoxCond, WatchCond
 from watchyard.errors import NoAct, NoWait
 from watchyard.fractions import fraction, is_fraction, less, plus
 
@@ -39,15 +40,39 @@ def behind_wait(net, state, d):
 
 
 def behind_act(net, state, act):
-    doors = [net.own_doors[number] for number in act]
-    if not all([state[0][door.machine] == door.start for door in doors]):
+    doors = doors_of(net, act)
+    place = place_behind(net, state[:2], doors)
+    if place is None or not conds_hold(watch_conds(doors), state):
         return None
-    if not all([conds_hold(door.conds, state) for door in doors]):
+    return if_stays_hold(net, place + (behind_resets(state[2], doors),))
+
+
+def doors_of(net, act):
+    return [net.own_doors[number] for number in act]
+
+
+def place_behind(net, place, doors):
+    # A place is a tuple (rooms, boxes), a state without its times: whatever the watches show, it is the same.
+    if not all([place[0][door.machine] == door.start for door in doors]):
         return None
-    boxes = behind_deeds(net, state[1], doors)
-    if boxes is None:
+    if not all([cond.holds(place[1], ()) for cond in box_conds(doors)]):
         return None
-    return if_stays_hold(net, (behind_doors(state[0], doors), boxes, behind_resets(state[2], doors)))
+    boxes = behind_deeds(net, place[1], doors)
+    return None if boxes is None else (behind_doors(place[0], doors), boxes)
+
+
+def watch_conds(doors):
+    told = []
+    for door in doors:
+        told.extend([cond for cond in door.conds if isinstance(cond, WatchCond)])
+    return told
+
+
+def box_conds(doors):
+    told = []
+    for door in doors:
+        told.extend([cond for cond in door.conds if isinstance(cond, BoxCond)])
+    return told
 
 
 def conds_hold(conds, state):
@@ -55,10 +80,14 @@ def conds_hold(conds, state):
 
 
 def if_stays_hold(net, state):
-    for own, name in zip(net.own_rooms, state[0]):
-        if not conds_hold(own[name].stays, state):
-            return None
-    return state
+    return state if conds_hold(stays_of(net, state[0]), state) else None
+
+
+def stays_of(net, rooms):
+    told = []
+    for own, name in zip(net.own_rooms, rooms):
+        told.extend(own[name].stays)
+    return told
 
 
 def behind_doors(rooms, doors):

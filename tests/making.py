@@ -5,6 +5,7 @@ import fractions
 import itertools
 import math
 import operator
+import random
 import re
 
 SIXTY = 10 ** 60 - 1
@@ -405,6 +406,11 @@ def yard_of(text):
     return yard
 
 
+def text_of(rows):
+    """A net's text, of rows with slashes between."""
+    return rows.replace("/", "\n") + "\n"
+
+
 def whole_threes(text):
     return [(name, sign, int(number)) for name, sign, number in threes_in(text)]
 
@@ -491,6 +497,15 @@ def ask_text(ask):
     return "; ".join(list_text(part) for part in ask)
 
 
+def ask_of(text):
+    """The ask as the reckoning has it."""
+    told = []
+    for part in text.split("; "):
+        threes = [each.split(" ") for each in part.split(", ")]
+        told.append([(name, sign, last if sign == "at" else int(last)) for name, sign, last in threes])
+    return told
+
+
 def yard_meets(yard, ask, state):
     names = dict(zip([machine["name"] for machine in yard["machines"]], state[0]))
     return any(
@@ -522,3 +537,219 @@ def yard_mosts(yard, asks):
     threes += [three for ask in asks for part in ask for three in part]
     return [max([0] + [three[2] for three in threes if three[0] == name and three[1] != "at"])
             for name in yard["watches"]]
+
+
+# Cells and spots.
+
+def cell_reckoned(most, values):
+    """The cell of what watches show, reckoned without the program."""
+    below = [value for number, value in zip(most, values) if value <= number]
+    parts = sorted({value - math.floor(value) for value in below} | {fractions.Fraction(0)})
+    return tuple((number + 1, 0) if value > number else (math.floor(value), parts.index(value - math.floor(value)))
+                 for number, value in zip(most, values))
+
+
+def next_reckoned(most, values):
+    """What the watches show a while later, at the first time that another cell has; None where none ever comes."""
+    below = [value for number, value in zip(most, values) if value <= number]
+    if not below:
+        return None
+    left = [math.floor(value) + 1 - value for value in below]
+    if 1 in left:
+        return tuple(value + min(left) / 2 for value in values)
+    return tuple(value + min(left) for value in values)
+
+
+def values_shown(state):
+    return [fractions.Fraction(*time) for time in state[2]]
+
+
+def pairs_of(values):
+    made = [fractions.Fraction(value) for value in values]
+    return tuple((value.numerator, value.denominator) for value in made)
+
+
+def pair_of(value):
+    return pairs_of([value])[0]
+
+
+def yard_spot(most, state):
+    return (state[0], state[1], cell_reckoned(most, values_shown(state)))
+
+
+def some_state_in(chance, most, spot):
+    """Any state of the spot, its broken parts and what lies beyond as they come."""
+    parts = [fractions.Fraction(0)]
+    parts += sorted(fractions.Fraction(each, 97) for each in chance.sample(range(1, 97), len(spot[2])))
+    values = []
+    for number, (whole, rank) in zip(most, spot[2]):
+        past = fractions.Fraction(chance.choice([1, 8, 30, 60, 90, 1200]), 30)
+        values.append(number + past if whole > number else whole + parts[rank])
+    return (spot[0], spot[1], pairs_of(values))
+
+
+def yard_later(yard, most, state):
+    """The spot to which who waits at the state comes, None where to none."""
+    values = values_shown(state)
+    shown = next_reckoned(most, values)
+    told = shown and yard_waited(yard, state, pair_of(shown[0] - values[0]))
+    return yard_spot(most, told) if told else None
+
+
+def yard_may_wait(yard, state):
+    """Whether a wait above 0 may be done, tried with one so short that no whole number is come to."""
+    gaps = [math.floor(value) + 1 - value for value in values_shown(state)]
+    return yard_waited(yard, state, pair_of(min(gaps + [fractions.Fraction(1)]) / 2)) is not None
+
+
+def yard_leads(yard, most, state):
+    """All acts that may be done at the state, and the spots to which they lead."""
+    behind = {act: yard_acted(yard, state, act) for act in yard_acts(yard)}
+    return {act: yard_spot(most, told) for act, told in behind.items() if told is not None}
+
+
+def yard_is_weather(yard, act):
+    return any(yard_doors(yard)[number][1]["weather"] for number in act)
+
+
+def small_yard(chance, most, weather=0.4):
+    """A lively yard of few spots, with numbers of watches up to the one handed in."""
+    yard = {"watches": ["x", "y", "z"][:chance.choice([0, 1, 1, 1, 2, 2, 2, 3])], "boxes": [], "machines": []}
+    if chance.random() < 0.3:
+        low = chance.randint(-2, 1)
+        yard["boxes"].append(("b", low, low + chance.randint(1, 2), low))
+    for name in ["m", "n"][:chance.choice([1, 1, 2])]:
+        names = list("rstu"[:chance.randint(2, 4)])
+        doors = [small_door(chance, yard, names, most, weather) for unused in range(chance.randint(2, 6))]
+        rooms = [small_room(chance, yard, room, most) for room in names]
+        yard["machines"].append({"name": name, "rooms": rooms, "doors": doors})
+    return yard
+
+
+def small_room(chance, yard, name, most):
+    stays = []
+    if yard["watches"] and chance.random() < 0.4:
+        stays.append((chance.choice(yard["watches"]), chance.choice(["<", "<="]), chance.randint(1, most)))
+    return {"name": name, "price": None, "hurry": chance.random() < 0.1, "stays": stays}
+
+
+def small_door(chance, yard, rooms, most, weather):
+    conds, deeds = [], []
+    if yard["watches"] and chance.random() < 0.6:
+        conds.append((chance.choice(yard["watches"]), chance.choice(WATCH_SIGNS), chance.randint(0, most)))
+    if yard["watches"] and chance.random() < 0.5:
+        deeds.append((chance.choice(yard["watches"]), "=", 0))
+    if yard["boxes"] and chance.random() < 0.3:
+        deeds.append(("b", chance.choice("+-"), 1))
+    word = None
+    if chance.random() < 0.3:
+        word = (chance.choice(["say", "hear"]), chance.choice(["go", "go", "on"]))
+    start = chance.choice(rooms)
+    return {"start": start, "goal": chance.choice([room for room in rooms if room != start] + rooms),
+            "weather": chance.random() < weather, "word": word, "price": None, "conds": conds, "deeds": deeds}
+
+
+def small_ask(chance, yard, most):
+    """An ask that seldom is met at the start."""
+    told = []
+    for unused in range(chance.choice([1, 1, 1, 2])):
+        machine = chance.choice(yard["machines"])
+        part = [(machine["name"], "at", chance.choice(machine["rooms"][1:])["name"])]
+        if yard["watches"] and chance.random() < 0.5:
+            watch = chance.choice(yard["watches"])
+            part.append((watch, chance.choice(WATCH_SIGNS), chance.randint(0, most)))
+            if chance.random() < 0.3:
+                part[:] = [(watch, ">", chance.randint(0, most))]
+        if yard["boxes"] and chance.random() < 0.3:
+            part.append(("b", "!=", yard["boxes"][0][3]))
+        told.append(part)
+    return told
+
+
+# What is told of spots, looked through entry by entry: lists of what is wrong.
+
+class Looked:
+    """A yard's spots, each looked at by any state of it."""
+
+    def __init__(self, yard, asks):
+        self.yard = yard
+        self.most = yard_mosts(yard, asks)
+        self.start = yard_spot(self.most, yard_start(yard))
+        self.chance = random.Random(1)
+        self.seen = {}
+
+    def at(self, spot):
+        if spot not in self.seen:
+            state = some_state_in(self.chance, self.most, spot)
+            leads = yard_leads(self.yard, self.most, state)
+            self.seen[spot] = {
+                "state": state, "later": yard_later(self.yard, self.most, state),
+                "waits": yard_may_wait(self.yard, state),
+                "ours": {act: goal for act, goal in leads.items() if not yard_is_weather(self.yard, act)},
+                "theirs": {act: goal for act, goal in leads.items() if yard_is_weather(self.yard, act)}}
+        return self.seen[spot]
+
+    def meets(self, ask, spot):
+        return ask is not None and yard_meets(self.yard, ask, self.at(spot)["state"])
+
+
+def order_faults(looked, spots):
+    if any(one >= after for one, after in zip(spots, spots[1:])):
+        yield "not rising"
+    if looked.start not in spots:
+        yield "without the start"
+
+
+def book_faults(yard, ask, book):
+    looked = Looked(yard, [ask])
+    told = list(order_faults(looked, book))
+    spots = dict.fromkeys(book)
+    for spot in book:
+        here = looked.at(spot)
+        goals = list(here["ours"].values()) + list(here["theirs"].values()) + [here["later"]]
+        told += [f"not closed at {spot}" for goal in goals if goal is not None and goal not in spots]
+        told += [f"met at {spot}"] if looked.meets(ask, spot) else []
+    return told
+
+
+def plan_faults(yard, ask, shun, plan):
+    looked = Looked(yard, [ask] + ([] if shun is None else [shun]))
+    told = list(order_faults(looked, [spot for spot, rank, word in plan]))
+    ranks = {spot: rank for spot, rank, word in plan}
+    for spot, rank, word in plan:
+        here = looked.at(spot)
+        met = looked.meets(ask, spot)
+        falls = {goal: ranks[goal] < rank for goal in ranks}
+        if looked.meets(shun, spot) or type(rank) is not int or (rank == 0) != met or (word == ("met",)) != met:
+            told.append(f"wrong rank at {spot}")
+        if met:
+            continue
+        if rank < 1 or not all(falls.get(goal) for goal in here["theirs"].values()):
+            told.append(f"rank doesn't fall at {spot}")
+        fits = {"go": len(word) == 2 and falls.get(here["ours"].get(word[-1])),
+                "wait": len(word) == 1 and falls.get(here["later"]),
+                "yield": len(word) == 1 and not here["waits"] and len(here["theirs"]) > 0}.get(word[0])
+        told += [] if fits else [f"wrong word at {spot}"]
+    return told
+
+
+def counter_faults(yard, ask, shun, counter):
+    looked = Looked(yard, [ask] + ([] if shun is None else [shun]))
+    told = list(order_faults(looked, [spot for spot, word in counter]))
+    spots = dict(counter)
+    for spot, word in counter:
+        if looked.meets(shun, spot):
+            told += [] if word == ("lost",) else [f"not lost at {spot}"]
+            continue
+        told += [f"met at {spot}"] if looked.meets(ask, spot) else []
+        told += [] if keeps_from(looked, spots, spot, word) else [f"wrong word at {spot}"]
+    return told
+
+
+def keeps_from(looked, spots, spot, word):
+    """Whether the word, not that of a lost spot, is right there in a counter-plan of these spots."""
+    here = looked.at(spot)
+    if word[0] == "cut":
+        return len(word) == 2 and here["theirs"].get(word[1]) in spots
+    goals = list(here["ours"].values()) + ([] if here["later"] is None else [here["later"]])
+    return word == ("let",) and all(goal in spots for goal in goals) and (here["waits"] or not here["theirs"])

@@ -1,12 +1,11 @@
 import copy
 import inspect
 import itertools
-import math
 import random
 import unittest
 from fractions import Fraction
 
-from making import SIXTY
+from making import SIXTY, cell_reckoned, next_reckoned, pairs_of
 
 from watchyard import cells as own
 from watchyard.asks import mosts, read_ask
@@ -16,30 +15,6 @@ from watchyard.reading import read_net
 from watchyard.runs import ran
 
 INCH = Fraction(1, SIXTY)
-
-
-def pairs(values):
-    made = [Fraction(value) for value in values]
-    return tuple((value.numerator, value.denominator) for value in made)
-
-
-def cell_reckoned(most, values):
-    """The cell of what watches show, reckoned without the program."""
-    below = [value for number, value in zip(most, values) if value <= number]
-    parts = sorted({value - math.floor(value) for value in below} | {Fraction(0)})
-    return tuple((number + 1, 0) if value > number else (math.floor(value), parts.index(value - math.floor(value)))
-                 for number, value in zip(most, values))
-
-
-def next_reckoned(most, values):
-    """What the watches show a while later, at the first time that another cell has; None where none ever comes."""
-    below = [value for number, value in zip(most, values) if value <= number]
-    if not below:
-        return None
-    left = [math.floor(value) + 1 - value for value in below]
-    if 1 in left:
-        return tuple(value + min(left) / 2 for value in values)
-    return tuple(value + min(left) for value in values)
 
 
 def all_values(count, steps, reach):
@@ -65,7 +40,7 @@ def some_mosts(chance):
 
 class CellOf(unittest.TestCase):
     def assertCell(self, most, values, cell):
-        self.assertEqual(cell_of(most, pairs(values)), cell, (most, values))
+        self.assertEqual(cell_of(most, pairs_of(values)), cell, (most, values))
         self.assertEqual(cell_reckoned(most, [Fraction(value) for value in values]), cell)
 
     def test_no_watch(self):
@@ -102,17 +77,17 @@ class CellOf(unittest.TestCase):
         for count, steps in ((1, 6), (2, 4), (3, 3)):
             for most in itertools.product(range(3), repeat=count):
                 for values in all_values(count, steps, 3):
-                    self.assertEqual(cell_of(list(most), pairs(values)), cell_reckoned(most, values))
+                    self.assertEqual(cell_of(list(most), pairs_of(values)), cell_reckoned(most, values))
 
     def test_any(self):
         chance = random.Random(1)
         for unused in range(2000):
             most = some_mosts(chance)
             values = some_values(chance, most)
-            self.assertEqual(cell_of(most, pairs(values)), cell_reckoned(most, values))
+            self.assertEqual(cell_of(most, pairs_of(values)), cell_reckoned(most, values))
 
     def test_kinds(self):
-        cell = cell_of([1, 0], pairs([Fraction(1, 2), 3]))
+        cell = cell_of([1, 0], pairs_of([Fraction(1, 2), 3]))
         self.assertEqual([type(each) for each in (cell,) + cell + cell[0] + cell[1]], [tuple] * 3 + [int] * 4)
 
 
@@ -157,7 +132,7 @@ class NextCell(unittest.TestCase):
         for unused in range(400):
             most = [chance.choice([0, 1, 2, 3, 5]) for each in range(chance.randint(0, 4))]
             values = some_values(chance, most)
-            cell = cell_of(most, pairs(values))
+            cell = cell_of(most, pairs_of(values))
             length = 0
             while values is not None:
                 self.assertEqual(cell, cell_reckoned(most, values))

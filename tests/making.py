@@ -666,7 +666,8 @@ def small_ask(chance, yard, most):
     return told
 
 
-# What is told of spots, looked through entry by entry: lists of what is wrong.
+# What is told of spots, looked through entry by entry: lists of what is wrong. Who has looked at the yard's spots
+# with these asks already may hand that in.
 
 class Looked:
     """A yard's spots, each looked at by any state of it."""
@@ -700,8 +701,8 @@ def order_faults(looked, spots):
         yield "without the start"
 
 
-def book_faults(yard, ask, book):
-    looked = Looked(yard, [ask])
+def book_faults(yard, ask, book, looked=None):
+    looked = looked or Looked(yard, [ask])
     told = list(order_faults(looked, book))
     spots = dict.fromkeys(book)
     for spot in book:
@@ -712,8 +713,8 @@ def book_faults(yard, ask, book):
     return told
 
 
-def plan_faults(yard, ask, shun, plan):
-    looked = Looked(yard, [ask] + ([] if shun is None else [shun]))
+def plan_faults(yard, ask, shun, plan, looked=None):
+    looked = looked or Looked(yard, [ask] + ([] if shun is None else [shun]))
     told = list(order_faults(looked, [spot for spot, rank, word in plan]))
     ranks = {spot: rank for spot, rank, word in plan}
     for spot, rank, word in plan:
@@ -733,8 +734,8 @@ def plan_faults(yard, ask, shun, plan):
     return told
 
 
-def counter_faults(yard, ask, shun, counter):
-    looked = Looked(yard, [ask] + ([] if shun is None else [shun]))
+def counter_faults(yard, ask, shun, counter, looked=None):
+    looked = looked or Looked(yard, [ask] + ([] if shun is None else [shun]))
     told = list(order_faults(looked, [spot for spot, word in counter]))
     spots = dict(counter)
     for spot, word in counter:

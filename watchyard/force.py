@@ -1,7 +1,7 @@
 """Force: a plan by which we win whatever the weather does, or a counter-plan that keeps us from it."""
 
 from watchyard.asks import mosts
-from watchyard.openings import leads
+from watchyard.openings import leads, looked_through
 from watchyard.spots import later, may_wait, spot_of, state_in
 from watchyard.states import begun
 
@@ -38,23 +38,12 @@ def game_mosts(net, ask, shun):
 
 
 def turns_from(net, most, start, ask, shun):
-    told = {}
     known = {}
-    fresh = [start]
-    while len(fresh) > 0:
-        for spot in fresh:
-            told[spot] = turn_at(net, most, spot, word_if_over(ask, shun, state_in(most, spot)), known)
-        fresh = unseen(told, fresh)
-    return told
 
+    def turn_of(spot):
+        return turn_at(net, most, spot, word_if_over(ask, shun, state_in(most, spot)), known)
 
-def unseen(turns, spots):
-    told = {}
-    for spot in spots:
-        for goal in goals_of(turns[spot]):
-            if goal not in turns:
-                told[goal] = True
-    return list(told)
+    return looked_through(start, turn_of, goals_of)
 
 
 def word_if_over(ask, shun, state):

@@ -45,3 +45,23 @@ def leads(net, most, spot, known):
             if conds_hold(opening.stays, state_in(most, goal)):
                 told.append((opening.act, goal))
     return told
+
+
+def looked_through(start, look, goals_of):
+    # What look tells of each spot that there is from the start on, by spot; goals_of tells of this to which it leads.
+    told = {}
+    fresh = [start]
+    while len(fresh) > 0:
+        for spot in fresh:
+            told[spot] = look(spot)
+        fresh = unseen(told, fresh, goals_of)
+    return told
+
+
+def unseen(looked, spots, goals_of):
+    told = {}
+    for spot in spots:
+        for goal in goals_of(looked[spot]):
+            if goal not in looked:
+                told[goal] = True
+    return list(told)
